@@ -1,0 +1,1 @@
+"""Icehouse: ice in cells, melting by its open faces."""
