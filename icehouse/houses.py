@@ -64,6 +64,13 @@ def shut_faces(walls):
     return {face_name(row, column, side): True for row, column, side in walls}
 
 
+def with_parts(house, row, column, parts):
+    """Tell the house as it is with so many parts in one cell."""
+    heats, cells, walls = house
+    changed = cells[row][:column] + (parts,) + cells[row][column + 1:]
+    return (heats, cells[:row] + (changed,) + cells[row + 1:], walls)
+
+
 def _need_heats(heats):
     if not _are_numbers(heats, MOST_HEAT) or len(heats) != 5:
         raise BadHouse("heats are a tuple of five numbers from 0 to 9")

@@ -51,6 +51,25 @@ def course(house):
     return hours
 
 
+def left(house, hours):
+    """The house behind so many hours; it is not walked on once nothing melts any more."""
+    while hours > 0 and any(rate for row in rates(house) for rate in row):
+        house = next_hour(house)
+        hours -= 1
+    return house
+
+
+def total(house):
+    return sum(parts for row in house[1] for parts in row)
+
+
+def with_cell(house, place, parts):
+    """The same house with so many parts in one cell."""
+    rows = [list(row) for row in house[1]]
+    rows[place[0]][place[1]] = parts
+    return (house[0], tuple(tuple(row) for row in rows), house[2])
+
+
 def spans(hours):
     found = []
     for hour, house in enumerate(hours):
